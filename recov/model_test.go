@@ -309,4 +309,3 @@ func (m *model) wake(t *testing.T) {
 		}
 	}
 }
-
